@@ -1,0 +1,1 @@
+"""Termcourt: a clerk of a court's terms."""
