@@ -200,10 +200,26 @@ def faults_of_top(tree):
     return faults
 
 
+def faults_of_locals(tree):
+    """Parameters and locals that are called like a class or an import of the file."""
+    taken = []
+    for node in tree.body:
+        if isinstance(node, (ast.ImportFrom, ast.ClassDef)):
+            taken += names_of_top(node)
+    found = []
+    for function in ast.walk(tree):
+        if isinstance(function, (ast.FunctionDef, ast.Lambda)):
+            # A method may be called like an import; what is bound within it may not.
+            within = [node for node in ast.walk(function) if isinstance(node, (ast.arg, ast.Name))]
+            names = [name for node in within for name in bound_names(node)]
+            found += [f"L15 line {function.lineno}" for name in names if name in taken]
+    return found
+
+
 def faults(text):
     """The rules that a file of this text breaks, with the lines."""
     tree = ast.parse(text)
-    found = faults_of_text(text) + faults_of_top(tree)
+    found = faults_of_text(text) + faults_of_top(tree) + faults_of_locals(tree)
     for node in ast.walk(tree):
         found += [f"{fault} line {getattr(node, 'lineno', 0)}" for fault in faults_of_node(node)]
     return found
@@ -222,3 +238,15 @@ def defined_in(text):
         if not isinstance(node, ast.ImportFrom):
             names += names_of_top(node)
     return names
+
+
+def methods_in(text):
+    """The names of the methods of all classes of a file of this text."""
+    classes = [node for node in ast.parse(text).body if isinstance(node, ast.ClassDef)]
+    return {part.name for node in classes for part in node.body if isinstance(part, ast.FunctionDef)}
+
+
+def values_in(text):
+    """The names of the values that a file of this text gives to objects."""
+    nodes = ast.walk(ast.parse(text))
+    return {node.attr for node in nodes if isinstance(node, ast.Attribute) and isinstance(node.ctx, ast.Store)}

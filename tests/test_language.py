@@ -4,7 +4,7 @@ import pathlib
 import re
 import unittest
 
-from language import defined_in, drawn_from, faults
+from language import defined_in, drawn_from, faults, methods_in, values_in
 
 PACKAGE = pathlib.Path(__file__).resolve().parent.parent / "termcourt"
 RULED_OUT = (
@@ -50,6 +50,9 @@ RULED_OUT = (
     "def one(x):\n    for y in x:\n        pass\n    else:\n        pass\n",
     "def one(x):\n    try:\n        one(x)\n    except Exception:\n        pass\n",
     "def one(x):\n    try:\n        one(x)\n    finally:\n        pass\n",
+    "from termcourt.stretches import place\ndef one(place):\n    return place\n",
+    "from termcourt.stretches import place\ndef one(x):\n    place = x\n    return place\n",
+    "class One:\n    pass\ndef two(x):\n    for One in x:\n        pass\n",
     "class One:\n    two = 1\n",
     "class One(list, dict):\n    pass\n",
     "class One:\n    def two(self):\n        pass\n    def two(self):\n        pass\n",
@@ -98,6 +101,13 @@ class Package(unittest.TestCase):
             self.assertTrue(free, sorted(left))
             for module in free:
                 left.pop(module)
+
+    def test_no_name_is_a_method_in_one_class_and_a_value_in_another(self):
+        methods = set().union(*[methods_in(text) for text in texts().values()])
+        values = set().union(*[values_in(text) for text in texts().values()])
+        self.assertIn("is_free", methods)
+        self.assertIn("names", values)
+        self.assertEqual(methods & values, set())
 
 
 class TheLook(unittest.TestCase):
