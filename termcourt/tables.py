@@ -2,7 +2,7 @@
 
 from termcourt.errors import NoTable
 from termcourt.patterns import Pattern
-from termcourt.stretches import is_stretch_of, overlay, place
+from termcourt.stretches import is_stretch_of, joined, overlay, place
 
 MOST_ROWS = 12
 MOST_ROW_DAYS = 40
@@ -53,14 +53,7 @@ class Table:
         return self.nth(self.before(day))
 
     def runs(self, first, last):
-        told = []
-        for day in range(first, last + 1):
-            free = self.is_free(day)
-            if told and told[-1][2] == free:
-                told[-1] = (told[-1][0], day, free)
-            else:
-                told.append((day, day, free))
-        return told
+        return joined([(day, day, self.is_free(day)) for day in range(first, last + 1)])
 
 
 def list_or_empty(things):

@@ -3,6 +3,8 @@
 This is what the program's short reckoning is held against, so nothing of the program is used here.
 """
 
+import functools
+
 LONG_OF_SEVENTEEN = (0, 6, 12)
 DAYS_OF_SEVENTEEN = 6209
 
@@ -26,6 +28,11 @@ def is_free(day, week, yearly, rows=()):
         if first <= day <= last:
             return word == "free"
     return day % 7 + 1 in week or any(first <= day_of_year(day) <= last for first, last in yearly)
+
+
+def free_by(week, yearly, rows=()):
+    """Whether days are free by one table, to be asked again and again: what was found is kept."""
+    return functools.lru_cache(maxsize=None)(lambda day: is_free(day, week, yearly, rows))
 
 
 def runs(first, last, week, yearly, rows=()):
