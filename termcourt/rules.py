@@ -33,3 +33,12 @@ class Rule:
         if kind == self.still[0]:
             return "still"
         return "goes on" if kind == self.still[1] else ""
+
+    def all_kinds(self):
+        """Every kind that has a role in the term's rows, the from kind, too."""
+        kinds = [self.owes] + self.ends + self.anew + [row[0] for row in self.longer]
+        if self.opens is not None:
+            kinds.append(self.opens)
+        if self.still is not None:
+            kinds.extend(self.still)
+        return kinds

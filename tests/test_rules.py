@@ -147,6 +147,14 @@ class Roles(unittest.TestCase):
         for field in FIELDS + LISTS:
             self.assertEqual(getattr(rule, field), getattr(same, field))
 
+    def test_all_kinds_of_a_rule(self):
+        kinds = ["amend", "claim", "drop", "grant", "halt", "plea", "reply", "resume", "serve", "settle"]
+        rule = from_rule()
+        self.assertEqual(sorted(rule.all_kinds()), kinds)
+        rule.all_kinds().append("other")
+        self.assertEqual(sorted(rule.all_kinds()), kinds)
+        self.assertEqual(behind_rule().all_kinds(), ["appeal"])
+
 
 if __name__ == "__main__":
     unittest.main()
